@@ -16,11 +16,7 @@ func (m *machine) execute(x *frame, in api.Instr) {
 	case api.InStore:
 		m.values[x.base+in.N] = m.pop()
 	case api.InList:
-		m.reserve(in.N)
-		rest := len(m.values) - in.N
-		l := slices.Clone(m.values[rest:])
-		m.values = m.values[:rest]
-		m.pushList(l)
+		m.list(in.N)
 	case api.InIndex:
 		i := m.pop()
 		l := m.popList()
@@ -35,12 +31,7 @@ func (m *machine) execute(x *frame, in api.Instr) {
 	case api.InSet:
 		m.set()
 	case api.InUnary:
-		v := m.pop()
-		if in.N == api.OpNot {
-			m.pushBool(v == 0)
-		} else {
-			m.push(-v)
-		}
+		m.unary(in.N, m.pop())
 	case api.InBin:
 		b := m.pop()
 		m.binary(in.N, m.pop(), b)
@@ -78,6 +69,15 @@ func index(l []int64, i int64) int {
 	return int(i)
 }
 
+// list makes a list of the n topmost values.
+func (m *machine) list(n int) {
+	m.reserve(n)
+	rest := len(m.values) - n
+	l := slices.Clone(m.values[rest:])
+	m.values = m.values[:rest]
+	m.pushList(l)
+}
+
 func (m *machine) set() {
 	v := m.pop()
 	i := m.pop()
@@ -87,6 +87,15 @@ func (m *machine) set() {
 	l = slices.Clone(l)
 	l[k] = v
 	m.pushList(l)
+}
+
+// unary pushes the result of an operator with one operand.
+func (m *machine) unary(op int, v int64) {
+	if op == api.OpNot {
+		m.pushBool(v == 0)
+	} else {
+		m.push(-v)
+	}
 }
 
 // binary pushes the result of an operator.

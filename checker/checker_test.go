@@ -181,6 +181,11 @@ func TestP12_2_Find(t *testing.T) {
 	if s, ok := checker.Find(f, "a"); !ok || !reflect.DeepEqual(s, api.Signature{Name: "a", Params: []int{3, 1}, Result: 2}) {
 		t.Errorf("Find: %v, %t", s, ok)
 	}
+	s, _ := checker.Find(f, "a")
+	s.Params[0] = 9
+	if f.Funcs[1].Params[0] != 3 {
+		t.Error("Find shares memory")
+	}
 	if s, ok := checker.Find(f, ""); !ok || s.Result != 2 {
 		t.Errorf("Find of an empty name: %v, %t", s, ok)
 	}

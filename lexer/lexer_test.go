@@ -40,6 +40,27 @@ func TestP8_1_IsName(t *testing.T) {
 	}
 }
 
+func TestP8_1_AllBytes(t *testing.T) {
+	const letters = "abcdefghijklmnopqrstuvwxyzABCDEFGHIJKLMNOPQRSTUVWXYZ_"
+	for c := range 128 {
+		first := strings.IndexByte(letters, byte(c)) >= 0
+		next := first || strings.IndexByte("0123456789", byte(c)) >= 0
+		if lexer.IsName(string(rune(c))) != first || lexer.IsName("x"+string(rune(c))) != next || lexer.IsName(string(rune(c))+"x") != first {
+			t.Errorf("the byte %d", c)
+		}
+		// All bytes from U+0020 to U+007E but two may occur in a string.
+		s := `"` + string(rune(c)) + `"`
+		l, at, e := lexer.Split(s)
+		good := c >= 32 && c <= 126 && c != '"' && c != '\\'
+		if c != '"' && (good != (e == api.OK) || good && l[0].Text != string(rune(c)) || !good && (at != 0 || e != api.ErrToken)) {
+			t.Errorf("the byte %d in a string: %v, %d, %d", c, l, at, e)
+		}
+		if _, _, e := lexer.Split(string(rune(c))); (e == api.OK) != (next || strings.IndexByte(" \t\n\r(){}[],;.=<>+-*/%!", byte(c)) >= 0) {
+			t.Errorf("the byte %d alone: %d", c, e)
+		}
+	}
+}
+
 func tk(kind int, text string, num int64, at int) api.Token {
 	return api.Token{Kind: kind, Text: text, Num: num, At: at}
 }

@@ -150,7 +150,7 @@ func TestP9_2_Expression(t *testing.T) {
 
 func TestP9_2_Errors(t *testing.T) {
 	for s, want := range map[string]int{
-		"": 0, "a < b < c": 6, "a == b != c": 7, "a +": 3, "a b": 2, "(a": 2, "a)": 1, "[1,]": 3, "[,": 1, "f(,)": 2, "f(1,)": 4, "f(1": 3, "f(1 2)": 4, "p.1": 2, "p.f": 3, "p.f + 1": 4, "a.b.c()": 3, "len()": 4, "len(a,b)": 5, "len a": 4,
+		"": 0, "a < b < c": 6, "a == b != c": 7, "a +": 3, "a b": 2, "(a": 2, "a)": 1, "[1,]": 3, "[,": 1, "f(,)": 2, "f(1,)": 4, "f(1": 3, "f(1 2)": 4, "p.1": 2, "p.f": 3, "p.f + 1": 4, "a.b.c()": 3, "p.()": 2, "p.if()": 2, "1 + p.(1)": 6, "len()": 4, "len(a,b)": 5, "len a": 4,
 		"push(a)": 6, "push(a,b,c)": 8, "set(a,b)": 7, "set(a,b,c,d)": 9, "\"s\"": 0, "if": 0, "a=b": 1, "!": 1, "-": 1, "+a": 0, "* a": 0, "a[": 2, "a[]": 2, "a[1": 3, "a;": 1, "1.f()": 1, "f()()": 3, "len": 3, "true()": 4, "p.len(a)": 2, "()": 1, "{": 0, "a!b": 1, "a && && b": 5, "int": 0, "(1)(2)": 3, "a.": 2,
 	} {
 		if x, at, e := parser.Expression(s); !reflect.DeepEqual(x, api.Expr{}) || at != want || e != api.ErrSyntax {
@@ -193,7 +193,7 @@ func TestP9_1_File(t *testing.T) {
 
 func TestP9_1_Syntax(t *testing.T) {
 	for s, want := range map[string]int{
-		"x": 0, "import": 6, "import a;": 7, `import "a"`: 10, `import "a" "b";`: 11, `func f() int {} import "a";`: 16, "func": 4, "func 1": 5, "func int() int {}": 5, "func f": 6, "func f{": 6, "func f(": 7, "func f(a": 8, "func f(a)": 8, "func f(a int": 12, "func f(a int,)": 13, "func f(a int b int)": 13, "func f(,": 7, "func f(a x)": 9,
+		"x": 0, "import": 6, "import a;": 7, `import "a"`: 10, `import "a" "b";`: 11, `func f() int {} import "a";`: 16, "func": 4, "func 1": 5, "func () int {}": 5, "import ;": 7, "func f(int) int {}": 7, "func f(a int, int) int {}": 14, "func f() int { let = 1; }": 19, "func f() int { p.(); }": 17, "func int() int {}": 5, "func f": 6, "func f{": 6, "func f(": 7, "func f(a": 8, "func f(a)": 8, "func f(a int": 12, "func f(a int,)": 13, "func f(a int b int)": 13, "func f(,": 7, "func f(a x)": 9,
 		"func f()": 8, "func f() {}": 9, "func f() x {}": 9, "func f() int": 12, "func f() int return": 13, "func f() int {": 14, "func f() int {} }": 16, "func f() int {};": 15,
 		"func f() int { let": 18, "func f() int { let 1 =": 19, "func f() int { let x 1": 21, "func f() int { let x == 1": 21, "func f() int { let x = ;": 23, "func f() int { let x = 1 }": 25, "func f() int { x }": 17, "func f() int { x + 1; }": 17, "func f() int { x == 1; }": 17, "func f() int { x = ; }": 19, "func f() int { x[0] = 1; }": 16, "func f() int { x.y = 1; }": 19, "func f() int { x.f; }": 18,
 		"func f() int { f() }": 19, "func f() int { f() + 1; }": 19, "func f() int { f()[0]; }": 18, "func f() int { 1; }": 15, "func f() int { (f()); }": 15, "func f() int { ; }": 15, "func f() int { {} }": 15, "func f() int { else {} }": 15, "func f() int { if a b }": 20, "func f() int { if {} }": 18, "func f() int { if a {} else b }": 28, "func f() int { if a {} else while b {} }": 28, "func f() int { while a ; }": 23, "func f() int { return; }": 21, "func f() int { return 1 }": 24, "func f() int { len(a); }": 15, "func f() int { func": 15, "func f() int { if a {} else {} else {} }": 31, "func f(a int bool)": 13, "func m.f() int {}": 6,

@@ -125,6 +125,14 @@ func TestP10_2_NotPrintable(t *testing.T) {
 			t.Errorf("a file with the expression %d: %q, %d", i, s, e)
 		}
 	}
+	// This comes before all limits.
+	for i, x := range []api.Expr{name(""), name("if"), {Kind: api.ExCall}, {Kind: api.ExCall, Name: "if"}, {Kind: api.ExCall, Name: "f", Pack: "if"}, un(api.OpSub, num(1)), bin(0, num(1), num(1)), bin(api.OpNot, num(1), num(1)), num(-1), args(api.ExLen, 2), {Kind: 12}} {
+		for _, y := range []api.Expr{bin(api.OpAdd, args(api.ExList, 5000), x), bin(api.OpAdd, x, args(api.ExList, 5000))} {
+			if s, e := printer.Expression(y); s != "" || e != api.ErrSyntax {
+				t.Errorf("long expression %d: %q, %d", i, s, e)
+			}
+		}
+	}
 	// Fields that a kind does not have do not matter.
 	x := api.Expr{Kind: api.ExInt, Num: 3, Op: 99, Pack: "if", Name: "\xff", At: -7}
 	if s, e := printer.Expression(x); s != "3" || e != api.OK {
@@ -158,6 +166,34 @@ func TestP10_1_NotPrintable(t *testing.T) {
 	odd := body(api.Stmt{Kind: api.StWhile, Expr: one, Name: "if", Else: []api.Stmt{bad}, At: -1}, api.Stmt{Kind: api.StCall, Expr: call, Body: []api.Stmt{bad}}, api.Stmt{Kind: api.StIf, Name: "1", Expr: one})
 	if s, e := printer.Format(odd); s != "func f() int {\n\twhile 1 {\n\t}\n\tf();\n\tif 1 {\n\t}\n}\n" || e != api.OK {
 		t.Errorf("further fields: %q, %d", s, e)
+	}
+}
+
+func TestP10_1_AllBytes(t *testing.T) {
+	const letters = "abcdefghijklmnopqrstuvwxyzABCDEFGHIJKLMNOPQRSTUVWXYZ_"
+	for c := range 256 {
+		b := string([]byte{byte(c)})
+		first := strings.Contains(letters, b)
+		next := first || strings.Contains("0123456789", b)
+		for s, want := range map[string]bool{b: first, "x" + b: next} {
+			if _, e := printer.Expression(name(s)); (e == api.OK) != want || !want && e != api.ErrSyntax {
+				t.Errorf("the name %q: %d", s, e)
+			}
+			// It is the same for names that are too long.
+			if _, e := printer.Expression(name(s + strings.Repeat("x", 5000))); (e == api.ErrLong) != want || !want && e != api.ErrSyntax {
+				t.Errorf("a long name with %q: %d", s, e)
+			}
+		}
+		good := c >= 32 && c <= 126 && c != '"' && c != '\\'
+		for _, long := range []string{"", strings.Repeat("x", 5000)} {
+			want := map[bool]api.Errno{true: api.OK, false: api.ErrSyntax}[good]
+			if good && long != "" {
+				want = api.ErrLong
+			}
+			if _, e := printer.Format(api.File{Imports: []api.Import{{Path: b + long}}}); e != want {
+				t.Errorf("the import %q: %d", b, e)
+			}
+		}
 	}
 }
 
@@ -198,6 +234,9 @@ func TestP10_1_Limits(t *testing.T) {
 	}
 	if s, e := printer.Format(api.File{Imports: []api.Import{{Path: strings.Repeat("a", 4000)}}}); e != api.OK || len(s) != 4011 {
 		t.Errorf("a long import: %d", e)
+	}
+	if s, e := printer.Format(api.File{Imports: []api.Import{{Path: strings.Repeat("a", 4085)}}}); e != api.OK || len(s) != api.MaxContent {
+		t.Errorf("a text with MaxContent bytes: %d", e)
 	}
 	if _, e := printer.Format(api.File{Imports: []api.Import{{Path: strings.Repeat("a", 4086)}}}); e != api.ErrLong {
 		t.Errorf("a longer import: %d", e)

@@ -44,11 +44,37 @@ func TestP2_1_Format(t *testing.T) {
 		{map[int]byte{15: mark, 31: mark, 63: 1}, api.OK},               // behind two empty records
 		{map[int]byte{15: mark, 31: mark, 47: 1}, api.ErrBad},           // a bad mark behind two records
 		{map[int]byte{15: mark, 31: mark, 47: mark, 50: 1}, api.ErrBad}, // in the last header
+		{map[int]byte{0: 1, 1: 2, 15: mark}, api.ErrBad},                // 258 bytes do not fit
 	} {
 		l, e := Open(set(t, 4, x.at))
 		if e != x.want || (l == nil) != (e != api.OK) {
 			t.Errorf("%d: %d, want %d", i, e, x.want)
 		}
+	}
+}
+
+// Each byte of the length of a record may be missing, but what is there must fit.
+func TestP2_1_FormatLength(t *testing.T) {
+	for i, x := range []struct {
+		high, low byte
+		last      int // the last byte of the record that is not zero
+		want      api.Errno
+	}{
+		{1, 5, 260, api.OK}, {1, 5, 261, api.ErrBad}, {1, 0, 510, api.OK}, {1, 0, 511, api.ErrBad}, {0, 5, 517 - 1, api.OK}, {0, 5, 517, api.ErrBad}, {0, 0, 700, api.OK}, {2, 200, 0, api.ErrBad}, {2, 100, 611, api.OK}, {3, 0, 0, api.ErrBad},
+	} {
+		at := map[int]byte{0: x.high, 1: x.low, api.SectorSize + x.last: 1}
+		if _, e := Open(set(t, 45, at)); e != x.want {
+			t.Errorf("length %d: %d, want %d", i, e, x.want)
+		}
+	}
+	// A record may fill the disk.
+	d, _ := sector.New(3)
+	l, _ := Open(d)
+	if e := l.Append(make([]byte, 32)); e != api.OK {
+		t.Errorf("a record that fills the disk: %d", e)
+	}
+	if e := l.Append(nil); e != api.ErrFull {
+		t.Errorf("a disk that is full: %d", e)
 	}
 }
 

@@ -278,6 +278,43 @@ func TestP2_6_EveryCut(t *testing.T) {
 	}
 }
 
+// The power is cut within the Append of records of many sizes, after which anything may be on the disk.
+func TestP2_6_LargeRecords(t *testing.T) {
+	r := rand.New(rand.NewSource(5))
+	for _, size := range []int{0, 1, 16, 255, 256, 257, 511, 512, 600, 4096, 5000, api.MaxBlob - 1, api.MaxBlob} {
+		for range 30 {
+			d := disk(t, size/api.SectorSize+6)
+			l := open(t, d)
+			l.Append(nil)
+			d.Cut(r.Intn(size/api.SectorSize + 6))
+			b := make([]byte, size)
+			for i := range b {
+				b[i] = byte(r.Intn(256)) | 1
+			}
+			acked, failed := [][]byte{nil}, b
+			if l.Append(b) == api.OK {
+				acked, failed = [][]byte{nil, b}, nil
+			}
+			keep := make([]byte, d.Ops())
+			for i := range keep {
+				keep[i] = []byte{0, 16, 1, byte(r.Intn(17))}[r.Intn(4)]
+			}
+			d = d.Crash(keep)
+			// A part of the repair may be lost, too.
+			for range r.Intn(3) {
+				d.Cut(r.Intn(size/api.SectorSize + 3))
+				recordlog.Open(d)
+				d = crash(r, d)
+			}
+			acked = prefix(t, open(t, d), acked, failed)
+			l = open(t, d)
+			if e := l.Append([]byte{7}); e != api.OK && len(acked) < 2 {
+				t.Fatalf("%d bytes: Append after a crash: %d", size, e)
+			}
+		}
+	}
+}
+
 func TestP2_6_ManyCrashes(t *testing.T) {
 	r := rand.New(rand.NewSource(4))
 	for range 400 {

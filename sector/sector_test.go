@@ -201,9 +201,14 @@ func TestP1_5_Crash(t *testing.T) {
 		if c.Ops() != 0 || c.Sectors() != 3 {
 			t.Error("Ops or Sectors after a crash")
 		}
-		if c.Write(0, fill(8)) != api.OK || c.Sync() != api.OK {
+		if c.Write(0, fill(8)) != api.OK {
 			t.Error("the power is on after a crash")
 		}
+		expect(t, "a buffered write after a crash", c.Crash(nil), 0, x.first)
+		if c.Sync() != api.OK {
+			t.Error("the power is on after a crash")
+		}
+		expect(t, "a durable write after a crash", c.Crash(nil), 0, fill(8))
 	}
 	expect(t, "the disk itself does not change", d, 0, fill(3))
 	expect(t, "the disk itself does not change", d.Crash(nil), 0, fill(9))

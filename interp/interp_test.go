@@ -249,6 +249,13 @@ func TestP13_1_NoProgram(t *testing.T) {
 			}
 		}
 	}
+	// Calls of functions that do not exist, or with too few or too many arguments.
+	one := []api.Expr{{Kind: api.ExInt, Num: 1}}
+	for _, e := range []api.Expr{{Kind: api.ExCall, Name: "g"}, {Kind: api.ExCall, Name: "g", Args: append(one, one...)}, {Kind: api.ExCall, Name: "none"}, {Kind: api.ExCall, Pack: "x", Name: "g", Args: one}, {Kind: api.ExCall, Pack: "lib", Name: "g", Args: one}, {Kind: api.ExName, Name: "none"}, {Kind: api.ExIndex, Args: append(one, one...)}} {
+		f := api.Func{Name: "f", Body: []api.Stmt{{Kind: api.StReturn, Expr: []api.Expr{e}}}}
+		g := api.Func{Name: "g", Params: []api.Param{{Name: "a", Type: api.Int}}, Body: []api.Stmt{{Kind: api.StReturn, Expr: one}}}
+		interp.Run([]api.Package{{Files: []api.File{{Imports: []api.Import{{Path: "x/lib"}}, Funcs: []api.Func{f, g}}}}}, "", "f", nil, wide)
+	}
 	deep := api.Expr{Kind: api.ExCall, Name: "f"}
 	for range 1 << 15 {
 		deep = api.Expr{Kind: api.ExUnary, Op: api.OpNeg, Args: []api.Expr{deep}}

@@ -93,6 +93,16 @@ func TestP18_3_Format(t *testing.T) {
 	if s, e := manifest.Format(m); s != "" || e != api.ErrLong {
 		t.Errorf("more than MaxText bytes: %d bytes, %d", len(s), e)
 	}
+	m = api.Manifest{Name: "a", Protect: paths(64), Allow: paths(50)}
+	for i := range m.Protect {
+		m.Protect[i], m.Allow[min(i, 48)] = long, long
+	}
+	for n, want := range map[int]api.Errno{14: api.OK, 15: api.ErrLong} {
+		m.Allow[49] = strings.Repeat("x", n)
+		if s, e := manifest.Format(m); e != want || e == api.OK && len(s) != api.MaxText {
+			t.Errorf("about MaxText bytes: %d, %d", len(s), e)
+		}
+	}
 }
 
 func TestP18_2_Parse(t *testing.T) {

@@ -82,6 +82,13 @@ func TestP24_1_Tasks(t *testing.T) {
 			t.Errorf("task %d: %+v, want %+v", i, got, x.want)
 		}
 	}
+	// A single directory is built, too.
+	single := api.Task{Manifest: api.Manifest{Name: "x"}}
+	for path, content := range map[string]string{"a.m": "#", "d/a.m": "#"} {
+		if got := grader.Grade(single, of(path, content), nil); !grader.Same(got, api.Grade{Kind: api.GrBuild, Issue: api.Issue{Err: api.ErrToken, Path: path}}) {
+			t.Errorf("%s: %+v", path, got)
+		}
+	}
 	// Without sources nothing is built but the tests.
 	k := api.Task{Manifest: api.Manifest{Name: "x", Bounds: api.Bounds{Fuel: 9, Calls: 9}, Tests: []api.Test{{Dir: "t", Name: "f", Points: 4}}}, Starter: of("readme", ""), Hidden: of("t/a.m", "func f() bool { return true; }")}
 	if got := grader.Grade(k, of("x.txt", ""), nil); !grader.Same(got, score(4, P)) {

@@ -135,6 +135,10 @@ func TestP28_4_Complete(t *testing.T) {
 			t.Errorf("Complete %d shares memory", i)
 		}
 	}
+	first := []api.Mark{pending("a", "x", 4), pending("b", "x", 5)}
+	if got, ok := ledger.Complete(first, pair("a", "x"), grade(4)); !ok || !same(got, []api.Mark{mark("a", "x", 4), pending("b", "x", 5)}) {
+		t.Errorf("the first mark: %v, %t", got, ok)
+	}
 	// Only the first mark of the pair counts.
 	twice := []api.Mark{mark("a", "x", 1), pending("a", "x", 2)}
 	if got, ok := ledger.Complete(twice, pair("a", "x"), grade(7)); ok || !same(got, twice) {

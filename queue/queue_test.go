@@ -45,6 +45,18 @@ func TestP27_1_Push(t *testing.T) {
 			t.Errorf("Push %d shares memory", i)
 		}
 	}
+	// Two results share no memory, even if the queue has room for more.
+	roomy := append(make([]api.Pair, 0, 9), of("a")...)
+	for _, f := range []func(p api.Pair) ([]api.Pair, api.Errno){
+		func(p api.Pair) ([]api.Pair, api.Errno) { return queue.Push(roomy, 5, p) },
+		func(p api.Pair) ([]api.Pair, api.Errno) { return queue.PushAll(roomy, 5, []api.Pair{p}) },
+	} {
+		x, _ := f(pair('x'))
+		y, _ := f(pair('y'))
+		if !same(x, of("ax")) || !same(y, of("ay")) {
+			t.Errorf("%v, %v", x, y)
+		}
+	}
 	// Both parts of a pair count.
 	if got, _ := queue.Push(of("a"), 3, api.Pair{Student: "a", Task: "u"}); len(got) != 2 {
 		t.Error("another task")

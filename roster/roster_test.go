@@ -75,6 +75,12 @@ func TestP26_3_Add(t *testing.T) {
 	if !reflect.DeepEqual(l, of("bob", s, "eve", in)) {
 		t.Error("Add changes its argument")
 	}
+	roomy := append(make([]api.User, 0, 9), l...)
+	a, _ := roster.Add(roomy, "zoe", in)
+	b, _ := roster.Add(roomy, "zak", in)
+	if a[2].Name != "zoe" || b[2].Name != "zak" {
+		t.Error("results share memory")
+	}
 	if got, e := roster.Add(nil, "ann", s); e != api.OK || !reflect.DeepEqual(got, of("ann", s)) {
 		t.Errorf("Add to nothing: %v, %d", got, e)
 	}

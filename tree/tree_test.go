@@ -192,6 +192,26 @@ func TestP4_5_Overlay(t *testing.T) {
 	}
 }
 
+// Two results share no memory, even if the tree has room for more files.
+func TestP4_5_Roomy(t *testing.T) {
+	roomy := api.Tree{Files: append(make([]api.Entry, 0, 9), entries("b", "1")...)}
+	for i, f := range []func(p string) (api.Tree, api.Errno){
+		func(p string) (api.Tree, api.Errno) { return tree.Put(roomy, p, "x") },
+		func(p string) (api.Tree, api.Errno) { return tree.Overlay(of(p, "x"), roomy) },
+		func(p string) (api.Tree, api.Errno) { return tree.Overlay(roomy, of(p, "x")) },
+	} {
+		for _, p := range [][2]string{{"c", "d"}, {"a", "c"}} {
+			x, _ := f(p[0])
+			y, _ := f(p[1])
+			_, ok1 := tree.Get(x, p[0])
+			_, ok2 := tree.Get(y, p[1])
+			if !ok1 || !ok2 || !equal(roomy, of("b", "1")) {
+				t.Errorf("%d: %v, %v", i, x, y)
+			}
+		}
+	}
+}
+
 func TestP4_6_Diff(t *testing.T) {
 	a, b := of("a", "1", "b", "2", "d", "4", "e", "5"), of("b", "3", "c", "x", "d", "4", "f", "6")
 	want := []api.Change{{Path: "a", Kind: api.Removed}, {Path: "b", Kind: api.Changed}, {Path: "c", Kind: api.Added}, {Path: "e", Kind: api.Removed}, {Path: "f", Kind: api.Added}}

@@ -1,12 +1,16 @@
 package script_test
 
 import (
+	"bytes"
 	"fmt"
 	"math/rand"
 	"strings"
 	"testing"
 
+	"classroom/api"
+	"classroom/durable"
 	"classroom/script"
+	"classroom/sector"
 )
 
 // play expects an output, given as its lines.
@@ -83,7 +87,7 @@ func TestP33_1_Bad(t *testing.T) {
 		play(t, "step root\n"+line+"\nstep root", "idle", "bad", "idle")
 	}
 	// An invalid line adds nothing.
-	play(t, "line task a\nline bounds 1 1 1\nline \\x\nfile A \\x\nfile A\nhidden A\\\nhidden A \\\npublish root", "bad", "bad", "bad", "bad", "bad", "ok")
+	play(t, "line task a\nline bounds 1 1 1\nline \\x\nfile A \\x\nfile A\nline\nhidden A\\\nhidden A \\\npublish root", "bad", "bad", "bad", "bad", "bad", "bad", "ok")
 }
 
 func TestP33_1_Words(t *testing.T) {
@@ -147,6 +151,14 @@ func TestP33_1_Long(t *testing.T) {
 
 func TestP33_1_Crash(t *testing.T) {
 	play(t, setup+"file work/a.m func add(a int, b int) int { return a + b; }\nsubmit ann hw\ncrash -\nview root hw\nstep root\ncrash 00\nview root hw\ncrash 1011ff00\nview ann hw", "ok", "ok", "ok", "ok", "ok", "mark ann 1 pending", "tests 2", "graded", "ok", "mark ann 1 1 8 1 1", "tests 2", "ok", "mark ann 1 1 8 1 1", "tests 2")
+	// The queue has room for eight pairs.
+	s, want := "line task a\nline bounds 1 1 1\npublish root\n", []string{"ok"}
+	for i := range 9 {
+		s += fmt.Sprintf("enroll root u%d student\nsubmit u%d a\n", i, i)
+		want = append(want, "ok", "ok")
+	}
+	want[18] = "error 4"
+	play(t, s+"submit u0 a\n", append(want, "ok")...)
 	// The lists and the text stay over a crash.
 	play(t, "line task a\nline bounds 1 1 1\nfile A x\ncrash -\npublish root\nreset\npublish root", "ok", "error 8", "error 13")
 	play(t, "cut 0\nenroll root ann student\nstep root\nview root x\npublish root\nfile A x\npublish root\nsubmit ann x\ncrash -\nenroll root ann student\ncrash -\nenroll root ann student", "error 3", "error 7", "error 7", "error 7", "error 8", "error 8", "ok", "ok", "ok", "error 9")
@@ -163,6 +175,39 @@ func TestP33_1_Crash(t *testing.T) {
 			}
 		}
 	}
+}
+
+// enrolled reports whether bob is there if the power is cut while he is enrolled.
+func enrolled(t *testing.T, cut int, keep []byte) bool {
+	t.Helper()
+	d, _ := sector.New(api.MaxSectors)
+	c, _ := durable.Open(d, 8, 8, 8)
+	d.Cut(cut)
+	c.Do(api.Command{Kind: api.CmEnroll, Actor: "root", User: "bob", Role: api.Student})
+	c, e := durable.Open(d.Crash(keep), 8, 8, 8)
+	if e != api.OK {
+		t.Fatal(e)
+	}
+	return len(c.State().Users()) == 2
+}
+
+func TestP33_1_Keep(t *testing.T) {
+	for cut := range 20 {
+		if enrolled(t, cut, nil) || !enrolled(t, cut, bytes.Repeat([]byte{16}, 20)) {
+			continue
+		}
+		// Here it depends on the bytes whether the command is kept.
+		for n := range 256 {
+			keep := bytes.Repeat([]byte{byte(n)}, 20)
+			want := []string{"error 3", "ok", "ok"}
+			if enrolled(t, cut, keep) {
+				want[2] = "error 9"
+			}
+			play(t, fmt.Sprintf("cut %d\nenroll root bob student\ncrash %x\nenroll root bob student", cut, keep), want...)
+		}
+		return
+	}
+	t.Error("no cut leaves it open whether the command is kept")
 }
 
 func TestP33_2_Prefix(t *testing.T) {

@@ -30,6 +30,10 @@ func TestP2_1_Format(t *testing.T) {
 	}{
 		{map[int]byte{15: mark}, api.OK},                                // an empty record
 		{map[int]byte{15: 1}, api.ErrBad},                               // another mark
+		{map[int]byte{2: 1}, api.ErrBad},                                // within the header
+		{map[int]byte{2: 1, 15: mark}, api.ErrBad},                      // within the header
+		{map[int]byte{14: 1}, api.ErrBad},                               // within the header
+		{map[int]byte{14: 1, 15: mark}, api.ErrBad},                     // within the header
 		{map[int]byte{7: 1}, api.ErrBad},                                // within the header
 		{map[int]byte{1: 3, 15: mark, 16: 1, 18: 1}, api.OK},            // a record
 		{map[int]byte{1: 3, 15: mark, 16: 1, 19: 1}, api.ErrBad},        // padding

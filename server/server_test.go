@@ -8,6 +8,7 @@ import (
 	"testing"
 
 	"classroom/api"
+	"classroom/digest"
 	"classroom/grader"
 	"classroom/queue"
 	"classroom/server"
@@ -302,6 +303,7 @@ func TestP30_3_Independent(t *testing.T) {
 	s := full(t, 4)
 	c := submit("ann", "hw", right)
 	p := publish("new")
+	p.Text += fmt.Sprintf("allow lib\npin readme %d\n", digest.Text("x", 32))
 	must(t, s, c, step(), submit("bob", "hw", right), p)
 	before := stateOf(s)
 	c.Tree.Files[0].Content, p.Tree.Files[0].Content, p.Other.Files[0].Content = "z", "z", "z"
@@ -310,6 +312,7 @@ func TestP30_3_Independent(t *testing.T) {
 	}
 	l := s.Tasks()
 	l[0].Manifest.Tests[0].Name, l[0].Manifest.Protect[0], l[0].Starter.Files[0].Path, l[0].Hidden.Files[0].Path = "z", "z", "z", "z"
+	l[2].Manifest.Allow[0], l[2].Manifest.Pins[0].Path = "z", "z"
 	s.Users()[0].Name, s.Queue()[0].Task, s.Marks()[0].Version, s.Marks()[0].Grade.Verdicts[0] = "z", "z", 99, 99
 	files, _ := s.Submission(pair("ann", "hw"))
 	files.Files[0].Path = "z"

@@ -184,6 +184,9 @@ func TestP10_1_AllBytes(t *testing.T) {
 				t.Errorf("a long name with %q: %d", s, e)
 			}
 		}
+		if _, e := printer.Expression(name(string(rune(c + 128)))); e != api.OK {
+			t.Errorf("the name U+%04X: %d", c+128, e)
+		}
 		good := c >= 32 && c <= 126 && c != '"' && c != '\\'
 		for _, long := range []string{"", strings.Repeat("x", 5000)} {
 			want := map[bool]api.Errno{true: api.OK, false: api.ErrSyntax}[good]
